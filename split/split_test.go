@@ -382,13 +382,19 @@ func TestRightWithOneByteOfAnotherClass(t *testing.T) { // P2.2
 	}
 }
 
+// classesOf is the sets of all classes.
+func classesOf(s api.Split) []api.Set {
+	var l []api.Set
+	for k := range s.Many {
+		l = append(l, split.Set(s, k))
+	}
+	return l
+}
+
 func TestCoarsest(t *testing.T) { // P2.3
 	for i, c := range lists() {
 		s := split.Of(c.l...)
-		var classes []api.Set
-		for k := range s.Many {
-			classes = append(classes, split.Set(s, k))
-		}
+		classes := classesOf(s)
 		if bset.Or(classes...) != full {
 			t.Error(i, "bytes of no class")
 		}
@@ -424,11 +430,7 @@ func toldApart(l []api.Set, p, q api.Set) bool {
 func TestSplitByItsClasses(t *testing.T) { // P2.3: the classes themselves make the same Split
 	for i, c := range lists() {
 		s := split.Of(c.l...)
-		var classes []api.Set
-		for k := range s.Many {
-			classes = append(classes, split.Set(s, k))
-		}
-		if split.Of(classes...) != s {
+		if split.Of(classesOf(s)...) != s {
 			t.Error(i)
 		}
 	}
